@@ -1,0 +1,1 @@
+"""Movesatonce: boxes' worths led to boxes all at once."""
