@@ -6,9 +6,14 @@ FEWEST_BOXES = 1
 MOST_BOXES = 10
 
 
+def is_count(boxes):
+    """Tell whether there may be so many boxes."""
+    return FEWEST_BOXES <= boxes <= MOST_BOXES
+
+
 def check_boxes(boxes):
     """Refuse a count of boxes beyond 1 to 10."""
-    if boxes < FEWEST_BOXES or boxes > MOST_BOXES:
+    if not is_count(boxes):
         raise BadLead("there are 1 to 10 boxes")
 
 

@@ -21,16 +21,22 @@ def check_moves(boxes, moves):
             raise BadMove(number)
 
 
+def do_move(held, move):
+    """Do a single move to the worths that boxes hold."""
+    word, one, other = move
+    if word == "swap":
+        held[one], held[other] = held[other], held[one]
+    else:
+        held[one] = held[other]
+
+
 def moved(worths, moves):
     """Tell the worths behind all moves, one behind the other."""
     check_boxes(len(worths))
     check_moves(len(worths), moves)
     held = list(worths)
-    for word, one, other in moves:
-        if word == "swap":
-            held[one], held[other] = held[other], held[one]
-        else:
-            held[one] = held[other]
+    for move in moves:
+        do_move(held, move)
     return held
 
 
